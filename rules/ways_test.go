@@ -65,6 +65,16 @@ func rangesOverInteger(n ast.Node) bool {
 	return false
 }
 
+// laysByCopy is a call of the language's own copy.
+func laysByCopy(n ast.Node) bool {
+	c, ok := n.(*ast.CallExpr)
+	if !ok {
+		return false
+	}
+	f, ok := c.Fun.(*ast.Ident)
+	return ok && f.Name == "copy" && f.Obj == nil
+}
+
 // isTable is a variable whose value is written out where it stands.
 func isTable(n ast.Node) bool {
 	v, ok := n.(*ast.ValueSpec)
@@ -85,4 +95,10 @@ func TestWaysOfSha(t *testing.T) {
 	need(t, "sha", "closure", isClosure)
 	need(t, "sha", "range over an integer", rangesOverInteger)
 	need(t, "sha", "constant table", isTable)
+}
+
+func TestWaysOfHmac(t *testing.T) {
+	need(t, "hmac", "range over an integer", rangesOverInteger)
+	need(t, "hmac", "closure", isClosure)
+	need(t, "hmac", "key that is laid by copy", laysByCopy)
 }
