@@ -102,3 +102,9 @@ func TestWaysOfHmac(t *testing.T) {
 	need(t, "hmac", "closure", isClosure)
 	need(t, "hmac", "key that is laid by copy", laysByCopy)
 }
+
+func TestWaysOfAes(t *testing.T) {
+	need(t, "aes", "array", isArray)
+	need(t, "aes", "table that is made by a goto", isGoto)
+	need(t, "aes", "key that is laid by copy", laysByCopy)
+}
