@@ -3,6 +3,7 @@ package rules
 import (
 	"go/ast"
 	"go/token"
+	"slices"
 	"testing"
 )
 
@@ -65,6 +66,69 @@ func rangesOverInteger(n ast.Node) bool {
 	return false
 }
 
+// answersTeller tells whether a function answers another one that can be ranged over.
+func answersTeller(f *ast.FuncDecl) bool {
+	if f.Type.Results == nil || len(f.Type.Results.List) != 1 {
+		return false
+	}
+	switch x := f.Type.Results.List[0].Type.(type) {
+	case *ast.FuncType:
+		return true
+	case *ast.IndexExpr:
+		return isSequence(x.X)
+	case *ast.IndexListExpr:
+		return isSequence(x.X)
+	}
+	return false
+}
+
+// isSequence is iter.Seq or iter.Seq2.
+func isSequence(n ast.Expr) bool {
+	s, ok := n.(*ast.SelectorExpr)
+	if !ok {
+		return false
+	}
+	p, ok := s.X.(*ast.Ident)
+	return ok && p.Name == "iter"
+}
+
+// tellers are the names of a package's own functions and methods whose answers can be ranged over.
+func tellers(t *testing.T, name string) []string {
+	t.Helper()
+	var l []string
+	for _, f := range source(t, name) {
+		for _, d := range f.Decls {
+			if f, ok := d.(*ast.FuncDecl); ok && answersTeller(f) {
+				l = append(l, f.Name.Name)
+			}
+		}
+	}
+	return l
+}
+
+// rangesOverFunction is a range over what one of the package's own functions answers.
+func rangesOverFunction(t *testing.T, name string) func(n ast.Node) bool {
+	t.Helper()
+	own := tellers(t, name)
+	return func(n ast.Node) bool {
+		r, ok := n.(*ast.RangeStmt)
+		if !ok {
+			return false
+		}
+		c, ok := r.X.(*ast.CallExpr)
+		if !ok {
+			return false
+		}
+		switch f := c.Fun.(type) {
+		case *ast.Ident:
+			return slices.Contains(own, f.Name)
+		case *ast.SelectorExpr:
+			return slices.Contains(own, f.Sel.Name)
+		}
+		return false
+	}
+}
+
 // laysByCopy is a call of the language's own copy.
 func laysByCopy(n ast.Node) bool {
 	c, ok := n.(*ast.CallExpr)
@@ -107,4 +171,9 @@ func TestWaysOfAes(t *testing.T) {
 	need(t, "aes", "array", isArray)
 	need(t, "aes", "table that is made by a goto", isGoto)
 	need(t, "aes", "key that is laid by copy", laysByCopy)
+}
+
+func TestWaysOfCtr(t *testing.T) {
+	need(t, "ctr", "range over an integer", rangesOverInteger)
+	need(t, "ctr", "block that is told by a function to range over", rangesOverFunction(t, "ctr"))
 }
