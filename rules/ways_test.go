@@ -149,6 +149,20 @@ func isTable(n ast.Node) bool {
 	return ok
 }
 
+// isVariadic is a function that is handed as many as one likes.
+func isVariadic(n ast.Node) bool {
+	f, ok := n.(*ast.FuncDecl)
+	if !ok {
+		return false
+	}
+	l := f.Type.Params.List
+	if len(l) == 0 {
+		return false
+	}
+	_, ok = l[len(l)-1].Type.(*ast.Ellipsis)
+	return ok
+}
+
 func TestWaysOfWire(t *testing.T) {
 	need(t, "wire", "digits that are read by a goto", isGoto)
 	need(t, "wire", "list that is compared by a method's value", comparesByMethod)
@@ -176,4 +190,8 @@ func TestWaysOfAes(t *testing.T) {
 func TestWaysOfCtr(t *testing.T) {
 	need(t, "ctr", "range over an integer", rangesOverInteger)
 	need(t, "ctr", "block that is told by a function to range over", rangesOverFunction(t, "ctr"))
+}
+
+func TestWaysOfDerive(t *testing.T) {
+	need(t, "derive", "variadic function that writes numbers", isVariadic)
 }
