@@ -22,6 +22,44 @@ func need(t *testing.T, name, way string, is func(n ast.Node) bool) {
 	}
 }
 
+// ownFunctions are a package's own functions, by their names.
+func ownFunctions(t *testing.T, name string) map[string]*ast.FuncDecl {
+	t.Helper()
+	m := map[string]*ast.FuncDecl{}
+	for _, f := range source(t, name) {
+		for _, d := range f.Decls {
+			if f, ok := d.(*ast.FuncDecl); ok && f.Recv == nil {
+				m[f.Name.Name] = f
+			}
+		}
+	}
+	return m
+}
+
+// needFrom holds that a function has what a way is told by, itself or in one of the package's own functions that it names.
+func needFrom(t *testing.T, name, from, way string, is func(n ast.Node) bool) {
+	t.Helper()
+	own := ownFunctions(t, name)
+	found := false
+	for work := []string{from}; len(work) > 0; work = work[1:] {
+		f := own[work[0]]
+		if f == nil {
+			continue
+		}
+		delete(own, work[0])
+		ast.Inspect(f, func(n ast.Node) bool {
+			if i, ok := n.(*ast.Ident); ok {
+				work = append(work, i.Name)
+			}
+			found = found || is(n)
+			return true
+		})
+	}
+	if !found {
+		t.Errorf("%s: %s has no %s", name, from, way)
+	}
+}
+
 func isGoto(n ast.Node) bool {
 	b, ok := n.(*ast.BranchStmt)
 	return ok && b.Tok == token.GOTO
@@ -163,6 +201,26 @@ func isVariadic(n ast.Node) bool {
 	return ok
 }
 
+// isBareSwitch is a switch without a value, of more than one case.
+func isBareSwitch(n ast.Node) bool {
+	s, ok := n.(*ast.SwitchStmt)
+	return ok && s.Tag == nil && len(s.Body.List) > 1
+}
+
+// callsEqual is a call of hmac.Equal, that takes as long wherever texts part: no answer tells whether it was asked.
+func callsEqual(n ast.Node) bool {
+	c, ok := n.(*ast.CallExpr)
+	if !ok {
+		return false
+	}
+	f, ok := c.Fun.(*ast.SelectorExpr)
+	if !ok || f.Sel.Name != "Equal" {
+		return false
+	}
+	p, ok := f.X.(*ast.Ident)
+	return ok && p.Name == "hmac"
+}
+
 func TestWaysOfWire(t *testing.T) {
 	need(t, "wire", "digits that are read by a goto", isGoto)
 	need(t, "wire", "list that is compared by a method's value", comparesByMethod)
@@ -194,4 +252,10 @@ func TestWaysOfCtr(t *testing.T) {
 
 func TestWaysOfDerive(t *testing.T) {
 	need(t, "derive", "variadic function that writes numbers", isVariadic)
+}
+
+func TestWaysOfSeal(t *testing.T) {
+	needFrom(t, "seal", "Open", "switch without a value", isBareSwitch)
+	needFrom(t, "seal", "Open", "sum that is compared by hmac.Equal", callsEqual)
+	needFrom(t, "seal", "Check", "sum that is compared by hmac.Equal", callsEqual)
 }
