@@ -259,3 +259,13 @@ func TestWaysOfSeal(t *testing.T) {
 	needFrom(t, "seal", "Open", "sum that is compared by hmac.Equal", callsEqual)
 	needFrom(t, "seal", "Check", "sum that is compared by hmac.Equal", callsEqual)
 }
+
+func TestWaysOfTerm(t *testing.T) {
+	for _, maker := range []string{"List", "Seal", "Sum", "Row"} {
+		needFrom(t, "term", maker, "list that is made by a variadic call", isVariadic)
+	}
+	for _, teller := range []string{"Size", "Parts"} {
+		needFrom(t, "term", teller, "part that is told by a function to range over", rangesOverFunction(t, "term"))
+	}
+	needFrom(t, "term", "Valid", "closure that is asked what is odd", isClosure)
+}
