@@ -22,38 +22,37 @@ func need(t *testing.T, name, way string, is func(n ast.Node) bool) {
 	}
 }
 
-// ownFunctions are a package's own functions, by their names.
-func ownFunctions(t *testing.T, name string) map[string]*ast.FuncDecl {
+// ownFunctions are a package's own functions and methods, by their names; those of unlike types may have the same.
+func ownFunctions(t *testing.T, name string) map[string][]ast.Node {
 	t.Helper()
-	m := map[string]*ast.FuncDecl{}
+	m := map[string][]ast.Node{}
 	for _, f := range source(t, name) {
 		for _, d := range f.Decls {
-			if f, ok := d.(*ast.FuncDecl); ok && f.Recv == nil {
-				m[f.Name.Name] = f
+			if f, ok := d.(*ast.FuncDecl); ok {
+				m[f.Name.Name] = append(m[f.Name.Name], f)
 			}
 		}
 	}
 	return m
 }
 
-// needFrom holds that a function has what a way is told by, itself or in one of the package's own functions that it names.
+// needFrom holds that a function has what a way is told by, itself or in one of the package's own functions and methods that it names.
 func needFrom(t *testing.T, name, from, way string, is func(n ast.Node) bool) {
 	t.Helper()
 	own := ownFunctions(t, name)
 	found := false
 	for work := []string{from}; len(work) > 0; work = work[1:] {
-		f := own[work[0]]
-		if f == nil {
-			continue
-		}
+		functions := own[work[0]]
 		delete(own, work[0])
-		ast.Inspect(f, func(n ast.Node) bool {
-			if i, ok := n.(*ast.Ident); ok {
-				work = append(work, i.Name)
-			}
-			found = found || is(n)
-			return true
-		})
+		for _, f := range functions {
+			ast.Inspect(f, func(n ast.Node) bool {
+				if i, ok := n.(*ast.Ident); ok {
+					work = append(work, i.Name)
+				}
+				found = found || is(n)
+				return true
+			})
+		}
 	}
 	if !found {
 		t.Errorf("%s: %s has no %s", name, from, way)
@@ -221,6 +220,23 @@ func callsEqual(n ast.Node) bool {
 	return ok && p.Name == "hmac"
 }
 
+// countsByIota is a constant that is counted, not written out.
+func countsByIota(n ast.Node) bool {
+	v, ok := n.(*ast.ValueSpec)
+	if !ok {
+		return false
+	}
+	found := false
+	for _, x := range v.Values {
+		ast.Inspect(x, func(n ast.Node) bool {
+			i, ok := n.(*ast.Ident)
+			found = found || ok && i.Name == "iota"
+			return true
+		})
+	}
+	return found
+}
+
 func TestWaysOfWire(t *testing.T) {
 	need(t, "wire", "digits that are read by a goto", isGoto)
 	need(t, "wire", "list that is compared by a method's value", comparesByMethod)
@@ -268,4 +284,11 @@ func TestWaysOfTerm(t *testing.T) {
 		needFrom(t, "term", teller, "part that is told by a function to range over", rangesOverFunction(t, "term"))
 	}
 	needFrom(t, "term", "Valid", "closure that is asked what is odd", isClosure)
+}
+
+func TestWaysOfCarry(t *testing.T) {
+	need(t, "carry", "tag that is counted by iota", countsByIota)
+	needFrom(t, "carry", "Pack", "array that a number is laid into", isArray)
+	needFrom(t, "carry", "Unpack", "closure that looks through keys", isClosure)
+	needFrom(t, "carry", "Unpack", "bytes of a key that are compared by hmac.Equal", callsEqual)
 }
