@@ -45,7 +45,7 @@ func packList(l []api.Term, secret string) (packed, api.Errno) {
 		if e != api.OK {
 			return packed{}, e
 		}
-		// It ends as soon as it is too long: terms may share their lists, and be far more than there is memory for.
+		// It ends as soon as it is too long: what follows would be sealed in vain.
 		if n += len(p.text); n > api.MaxText {
 			return packed{}, api.ErrLong
 		}
