@@ -237,6 +237,16 @@ func countsByIota(n ast.Node) bool {
 	return found
 }
 
+// reckonsComplex is a call of the language's own complex, real or imag.
+func reckonsComplex(n ast.Node) bool {
+	c, ok := n.(*ast.CallExpr)
+	if !ok {
+		return false
+	}
+	f, ok := c.Fun.(*ast.Ident)
+	return ok && f.Obj == nil && slices.Contains([]string{"complex", "real", "imag"}, f.Name)
+}
+
 func TestWaysOfWire(t *testing.T) {
 	need(t, "wire", "digits that are read by a goto", isGoto)
 	need(t, "wire", "list that is compared by a method's value", comparesByMethod)
@@ -291,4 +301,13 @@ func TestWaysOfCarry(t *testing.T) {
 	needFrom(t, "carry", "Pack", "array that a number is laid into", isArray)
 	needFrom(t, "carry", "Unpack", "closure that looks through keys", isClosure)
 	needFrom(t, "carry", "Unpack", "bytes of a key that are compared by hmac.Equal", callsEqual)
+}
+
+func TestWaysOfSpan(t *testing.T) {
+	for _, reckoner := range []string{"Point", "Of", "Both", "Cut", "Check", "Near"} {
+		needFrom(t, "span", reckoner, "span that is reckoned as a complex number", reckonsComplex)
+	}
+	for _, asker := range []string{"Valid", "Cut", "Check", "Near"} {
+		needFrom(t, "span", asker, "time that is asked by a variadic call", isVariadic)
+	}
 }
