@@ -166,14 +166,26 @@ func rangesOverFunction(t *testing.T, name string) func(n ast.Node) bool {
 	}
 }
 
-// laysByCopy is a call of the language's own copy.
-func laysByCopy(n ast.Node) bool {
-	c, ok := n.(*ast.CallExpr)
+// callsOwn is a call of one of the language's own functions.
+func callsOwn(name string) func(n ast.Node) bool {
+	return func(n ast.Node) bool {
+		c, ok := n.(*ast.CallExpr)
+		if !ok {
+			return false
+		}
+		f, ok := c.Fun.(*ast.Ident)
+		return ok && f.Name == name && f.Obj == nil
+	}
+}
+
+// isMapByTexts is a map whose keys are texts.
+func isMapByTexts(n ast.Node) bool {
+	m, ok := n.(*ast.MapType)
 	if !ok {
 		return false
 	}
-	f, ok := c.Fun.(*ast.Ident)
-	return ok && f.Name == "copy" && f.Obj == nil
+	k, ok := m.Key.(*ast.Ident)
+	return ok && k.Name == "string"
 }
 
 // isTable is a variable whose value is written out where it stands.
@@ -262,13 +274,13 @@ func TestWaysOfSha(t *testing.T) {
 func TestWaysOfHmac(t *testing.T) {
 	need(t, "hmac", "range over an integer", rangesOverInteger)
 	need(t, "hmac", "closure", isClosure)
-	need(t, "hmac", "key that is laid by copy", laysByCopy)
+	need(t, "hmac", "key that is laid by copy", callsOwn("copy"))
 }
 
 func TestWaysOfAes(t *testing.T) {
 	need(t, "aes", "array", isArray)
 	need(t, "aes", "table that is made by a goto", isGoto)
-	need(t, "aes", "key that is laid by copy", laysByCopy)
+	need(t, "aes", "key that is laid by copy", callsOwn("copy"))
 }
 
 func TestWaysOfCtr(t *testing.T) {
@@ -310,4 +322,10 @@ func TestWaysOfSpan(t *testing.T) {
 	for _, asker := range []string{"Valid", "Cut", "Check", "Near"} {
 		needFrom(t, "span", asker, "time that is asked by a variadic call", isVariadic)
 	}
+}
+
+func TestWaysOfKnow(t *testing.T) {
+	needFrom(t, "know", "New", "map of known terms, by their marks", isMapByTexts)
+	needFrom(t, "know", "Learn", "delete of what waits", callsOwn("delete"))
+	needFrom(t, "know", "Can", "closure that is asked what cannot be made", isClosure)
 }
