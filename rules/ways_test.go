@@ -259,6 +259,18 @@ func reckonsComplex(n ast.Node) bool {
 	return ok && f.Obj == nil && slices.Contains([]string{"complex", "real", "imag"}, f.Name)
 }
 
+// isHandedPointer is a closure that is handed a pointer.
+func isHandedPointer(n ast.Node) bool {
+	f, ok := n.(*ast.FuncLit)
+	if !ok {
+		return false
+	}
+	return slices.ContainsFunc(f.Type.Params.List, func(p *ast.Field) bool {
+		_, ok := p.Type.(*ast.StarExpr)
+		return ok
+	})
+}
+
 func TestWaysOfWire(t *testing.T) {
 	need(t, "wire", "digits that are read by a goto", isGoto)
 	need(t, "wire", "list that is compared by a method's value", comparesByMethod)
@@ -328,4 +340,11 @@ func TestWaysOfKnow(t *testing.T) {
 	needFrom(t, "know", "New", "map of known terms, by their marks", isMapByTexts)
 	needFrom(t, "know", "Learn", "delete of what waits", callsOwn("delete"))
 	needFrom(t, "know", "Can", "closure that is asked what cannot be made", isClosure)
+}
+
+func TestWaysOfPolicy(t *testing.T) {
+	needFrom(t, "policy", "New", "map of principals, by their names", isMapByTexts)
+	for _, changer := range []string{"Allow", "Acts"} {
+		needFrom(t, "policy", changer, "closure that is handed a pointer", isHandedPointer)
+	}
 }
