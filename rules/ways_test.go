@@ -348,3 +348,9 @@ func TestWaysOfPolicy(t *testing.T) {
 		needFrom(t, "policy", changer, "closure that is handed a pointer", isHandedPointer)
 	}
 }
+
+func TestWaysOfAuthz(t *testing.T) {
+	for _, asker := range []string{"Valid", "Read"} {
+		needFrom(t, "authz", asker, "closure that is asked what is odd", isClosure)
+	}
+}
